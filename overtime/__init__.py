@@ -1,0 +1,1 @@
+"""Tables over time: tables whose rows each hold for a set of moments."""

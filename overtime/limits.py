@@ -1,0 +1,7 @@
+"""The greatest numbers and sizes that the tables take."""
+
+LARGEST_NUMBER = 999999999999
+LATEST_BOUND = 1000000000
+MOST_BOUNDS = 64
+MOST_ROWS = 64
+MOST_ANSWERED = 8000
