@@ -4,8 +4,8 @@ Each of them tells the parts that table t's rows are made of after it; how such 
 """
 
 from overtime.limits import LARGEST_NUMBER, MOST_BOUNDS, MOST_ROWS
-from overtime.moments import in_any, in_both, in_just_one, in_left_alone
-from overtime.rows import clash_moments, grouped, parts_of, rows_from
+from overtime.moments import in_any, in_both, in_left_alone
+from overtime.rows import clash_moments, differing_moments, grouped, parts_of, rows_from
 
 
 def insert_parts(table, other, call):
@@ -140,15 +140,10 @@ def change_answer(table, other, call):
     after = rows_from(parts, table.width)
     if are_too_many(after):
         return [-6]
-    moments = changed_moments(table.rows, after)
+    moments = differing_moments(table.rows, after)
     table.rows = after
     return [0] + moments
 
 
 def are_too_many(rows):
     return len(rows) > MOST_ROWS or any([len(bounds) > MOST_BOUNDS for bounds in rows.values()])
-
-
-def changed_moments(before, after):
-    rows = list(before) + [row for row in after if row not in before]
-    return in_any([in_just_one(before.get(row, []), after.get(row, [])) for row in rows])

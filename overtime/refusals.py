@@ -32,6 +32,8 @@ def is_out_of_range(call):
     for argument in RANGES:
         if argument in call and not is_within(call[argument], RANGES[argument]):
             return True
+    if "m" in call and not is_within(call["m"], (0, LATEST_BOUND)):
+        return True
     if "k" in call and not is_within(call["k"], (1, call["w"])):
         return True
     return not are_numbers([call[argument] for argument in ("x", "y") if argument in call])

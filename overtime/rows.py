@@ -3,7 +3,7 @@
 A part is a pair: a row (a tuple of numbers) and the bounds of a set at which it holds. One row may have several parts.
 """
 
-from overtime.moments import in_any, in_at_least
+from overtime.moments import in_any, in_at_least, in_just_one
 
 
 class Table:
@@ -46,3 +46,9 @@ def clash_moments(parts, key_width):
         if doubled:
             moments.append(doubled[0])
     return moments
+
+
+def differing_moments(left, right):
+    """The bounds of the moments at which two dicts of rows don't tell the same rows."""
+    rows = list(left) + [row for row in right if row not in left]
+    return in_any([in_just_one(left.get(row, []), right.get(row, [])) for row in rows])

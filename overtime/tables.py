@@ -1,7 +1,7 @@
 """Answers a list of calls on four tables, none of which is made at its beginning."""
 
 from overtime.changes import change_answer
-from overtime.questions import uncovered_answer
+from overtime.questions import is_question, question_answer
 from overtime.reading import read_calls
 from overtime.refusals import refusal
 from overtime.rows import Table
@@ -31,6 +31,6 @@ def answer_of(tables, call):
         return [0]
     table = tables[call["t"]]
     other = tables[call.get("u", call["t"])]
-    if call["name"] == "uncovered":
-        return uncovered_answer(table, other, call)
+    if is_question(call):
+        return question_answer(table, other, call)
     return change_answer(table, other, call)

@@ -60,6 +60,46 @@ def take(t, u, S):
     return [11, t, u] + counted(S)
 
 
+def cut(t, m):
+    return [12, t, m]
+
+
+def rows(t):
+    return [13, t]
+
+
+def history(t, key):
+    return [14, t] + counted(key)
+
+
+def when(t, row):
+    return [15, t] + counted(row)
+
+
+def alive(t, key):
+    return [16, t] + counted(key)
+
+
+def bounds(t):
+    return [17, t]
+
+
+def count(t):
+    return [18, t]
+
+
+def total(t, c):
+    return [19, t, c]
+
+
+def most(t):
+    return [20, t]
+
+
+def differ(t, u):
+    return [21, t, u]
+
+
 def uncovered(t, c, u):
     return [22, t, c, u]
 
@@ -80,19 +120,19 @@ def last(*calls):
     return ask(calls)[-1]
 
 
-def held(calls, t, shape, rows):
-    """The bounds for which each of the rows holds in table t after the calls.
+def held(calls, t, shape, asked_rows):
+    """The bounds for which each of the rows holds in table t after the calls, without asking a question.
 
     take tells at which moments table t had the one row that the other table has for ever with that key, and a row
     that's taken out doesn't touch the others.
     """
     spare = 3 if t != 3 else 2
     asked = [drop(spare), make(spare, shape[0], shape[1])]
-    for row in rows:
+    for row in asked_rows:
         asked += [put(spare, row, ALWAYS), take(t, spare, ALWAYS)]
     given = ask(list(calls) + asked)[len(calls) + 2:]
     found = {}
-    for row, answer in zip(rows, given[1::2]):
+    for row, answer in zip(asked_rows, given[1::2]):
         assert answer[0] == 0, answer
         found[tuple(row)] = answer[1:]
     return found

@@ -45,7 +45,9 @@ class Plain:
         return self.apply(t, t, S, rule)
 
     def change(self, t, c, op, x, d, y, S):
-        return self.apply(t, t, S, lambda rows, others: [swap(row, d, y) if fits(row[c], op, x) else row for row in rows])
+        def rule(rows, others):
+            return [swap(row, d, y) if fits(row[c], op, x) else row for row in rows]
+        return self.apply(t, t, S, rule)
 
     def remove(self, t, c, op, x, S):
         return self.apply(t, t, S, lambda rows, others: [row for row in rows if not fits(row[c], op, x)])
@@ -63,17 +65,66 @@ class Plain:
     def take(self, t, u, S):
         return self.apply(t, u, S, lambda rows, others: [row for row in rows if row not in others])
 
+    def cut(self, t, m):
+        states = self.tables[t][2]
+        rows = [state for point, state in zip(self.points, states) if point <= m][-1]
+        return flat(sorted(rows))
+
+    def rows(self, t):
+        states = self.tables[t][2]
+        found = sorted(frozenset().union(*states))
+        return [len(found)] + [number for row in found for number in row + tuple(listed(self.held_for(row, states)))]
+
+    def history(self, t, key):
+        """Walks the moments: an entry begins where another row has the key than before, and ends likewise."""
+        entries = []
+        before = None
+        for point, rows in zip(self.points, self.tables[t][2]):
+            now = ([row for row in rows if self.key(t, row) == tuple(key)] + [None])[0]
+            if now != before:
+                if before is not None:
+                    entries[-1][1] = point
+                if now is not None:
+                    entries.append([point, -1] + list(now))
+            before = now
+        return flat(entries)
+
+    def when(self, t, row):
+        return listed(self.held_for(tuple(row), self.tables[t][2]))
+
+    def alive(self, t, key):
+        return listed(self.bounds_of([tuple(key) in [self.key(t, row) for row in rows] for rows in self.tables[t][2]]))
+
+    def bounds(self, t):
+        states = self.tables[t][2]
+        pairs = zip(self.points, [frozenset()] + states, states)
+        return listed([point for point, before, now in pairs if before != now])
+
+    def count(self, t):
+        return self.values([len(rows) for rows in self.tables[t][2]])
+
+    def total(self, t, c):
+        return self.values([sum(row[c] for row in rows) for rows in self.tables[t][2]])
+
+    def values(self, numbers):
+        pairs = zip(self.points, [None] + numbers, numbers)
+        return flat([(point, now) for point, before, now in pairs if before != now])
+
+    def most(self, t):
+        sizes = [len(rows) for rows in self.tables[t][2]]
+        return [max(sizes), self.points[sizes.index(max(sizes))]]
+
+    def differ(self, t, u):
+        if self.tables[t][:2] != self.tables[u][:2]:
+            return [-3]
+        return listed(self.bounds_of([left != right for left, right in zip(self.tables[t][2], self.tables[u][2])]))
+
     def uncovered(self, t, c, u):
-        if t not in self.tables or u not in self.tables:
-            return [-2]
         if self.tables[u][1] != 1:
             return [-3]
-        if not 0 <= c < self.tables[t][0]:
-            return [-4]
         pairs = zip(self.tables[t][2], self.tables[u][2])
-        bounds = self.bounds([any(row[c] not in [other[0] for other in others] for row in rows)
-                              for rows, others in pairs])
-        return [len(bounds)] + bounds
+        return listed(self.bounds_of([any(row[c] not in [other[0] for other in others] for row in rows)
+                                      for rows, others in pairs]))
 
     def key(self, t, row):
         return row[:self.tables[t][1]]
@@ -98,17 +149,25 @@ class Plain:
         if self.is_too_large(after):
             return [-6]
         self.tables[t] = (w, k, after)
-        return [0] + self.bounds([old != new for old, new in zip(before, after)])
+        return [0] + self.bounds_of([old != new for old, new in zip(before, after)])
 
     def is_too_large(self, states):
         everything = frozenset().union(*states)
-        return len(everything) > 64 or any(len(self.when(row, states)) > 64 for row in everything)
+        return len(everything) > 64 or any(len(self.held_for(row, states)) > 64 for row in everything)
 
-    def when(self, row, states):
-        return self.bounds([row in rows for rows in states])
+    def held_for(self, row, states):
+        return self.bounds_of([row in rows for rows in states])
 
-    def bounds(self, flags):
+    def bounds_of(self, flags):
         return [point for point, now, before in zip(self.points, flags, [False] + flags) if now != before]
+
+
+def listed(numbers):
+    return [len(numbers)] + numbers
+
+
+def flat(entries):
+    return [len(entries)] + [number for entry in entries for number in entry]
 
 
 def swap(row, c, number):

@@ -7,8 +7,10 @@ from tests import calls as written
 from tests.calls import LARGE, LATEST, ask, held
 from tests.plain import Plain
 
-NAMES = ["insert", "put", "delete", "set_", "add", "change", "remove", "copy", "merge", "take", "uncovered"]
-GROWING = NAMES + ["insert", "put", "set_", "add", "merge"] * 5
+CHANGES = ["insert", "put", "delete", "set_", "add", "change", "remove", "copy", "merge", "take"]
+QUESTIONS = ["cut", "rows", "history", "when", "alive", "bounds", "count", "total", "most", "differ", "uncovered"]
+NAMES = CHANGES * 2 + QUESTIONS
+GROWING = NAMES + ["insert", "put", "set_", "add", "merge"] * 8
 
 
 class Mixed:
@@ -53,29 +55,51 @@ class Mixed:
                           self.bounds()]
         if name == "remove":
             return name, [t, c, self.chance.randrange(6), self.number(), self.bounds()]
-        if name == "uncovered":
-            return name, [t, c, u]
+        if name in QUESTIONS:
+            return self.question(name, t, u)
         return name, [t, u, self.bounds()]
+
+    def question(self, name, t, u):
+        w, k = self.shapes[t]
+        if name == "cut":
+            return name, [t, self.moment()]
+        if name in ("history", "alive"):
+            return name, [t, self.a_list(k)]
+        if name == "when":
+            return name, [t, self.a_list(w)]
+        if name == "total":
+            return name, [t, self.chance.randrange(w)]
+        if name == "differ":
+            return name, [t, u]
+        if name == "uncovered":
+            return name, [t, self.chance.randrange(w), u]
+        return name, [t]
+
+    def moment(self):
+        """A point, or a moment close to one."""
+        near = self.chance.choice(self.points) + self.chance.choice((-1, 0, 0, 1))
+        return min(LATEST, max(0, near))
 
 
 class AgainstPlain(unittest.TestCase):
     def check(self, mixed, size):
-        """The seen answers' first numbers, so that a test can tell that it has met them all."""
+        """The first numbers that changes answered, so that a test can tell that it has met them all."""
         plain = Plain(mixed.points)
         chosen = [("make", [t, w, k]) for t, (w, k) in enumerate(mixed.shapes)]
         chosen += [mixed.call() for _ in range(size)]
+        chosen += [mixed.question(name, t, t ^ 1) for t in range(len(mixed.shapes)) for name in QUESTIONS]
         listed = [getattr(written, name)(*arguments) for name, arguments in chosen]
         given = ask(listed)
         for place, (name, arguments) in enumerate(chosen):
             self.assertEqual(given[place], getattr(plain, name)(*arguments), chosen[:place + 1])
         for t, shape in enumerate(mixed.shapes):
             self.check_rows(listed, t, shape, plain)
-        return {answer[0] for answer in given}
+        return {answer[0] for answer, (name, arguments) in zip(given, chosen) if name in CHANGES}
 
     def check_rows(self, listed, t, shape, plain):
         states = plain.tables[t][2]
         rows = sorted(frozenset().union(*states))
-        wanted = {row: plain.when(row, states) for row in rows}
+        wanted = {row: plain.held_for(row, states) for row in rows}
         self.assertEqual(held(listed, t, shape, rows), wanted)
 
     def test_few_moments_and_numbers(self):

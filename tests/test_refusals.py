@@ -1,16 +1,18 @@
-"""The refusals -1 to -5 of every change, and their order. Those of make, drop and uncovered stand with these calls."""
+"""The refusals -1 to -5 of every change and question, and their order. Those of make and drop stand with these."""
 
 import unittest
 
-from tests.calls import HUGE, LARGE, LATEST, add, ask, change, copy, delete, held, insert, last, make, merge, put, remove
-from tests.calls import drop, set_, take
+from tests.calls import HUGE, LARGE, LATEST, add, alive, ask, bounds, change, copy, count, cut, delete, differ, drop
+from tests.calls import held, history, insert, last, make, merge, most, put, remove, rows, set_, take, total, uncovered
+from tests.calls import when
 
 # Table 1 has the widths of table 0, table 2 hasn't, table 3 isn't made.
 SHAPES = [(3, 2), (3, 2), (3, 1)]
 BEGUN = [make(t, w, k) for t, (w, k) in enumerate(SHAPES)] + [insert(t, [1, 2, 3], [3, 9]) for t in range(3)]
 
-GOOD = {"t": 0, "u": 1, "c": 2, "op": 0, "x": 5, "d": 2, "y": 5, "row": [1, 2, 4], "key": [1, 2], "S": [20, 30]}
-CALLS = [
+GOOD = {"t": 0, "u": 1, "c": 2, "op": 0, "x": 5, "d": 2, "y": 5, "m": 5, "row": [1, 2, 4], "key": [1, 2],
+        "S": [20, 30]}
+CHANGES = [
     (insert, ("t", "row", "S")),
     (put, ("t", "row", "S")),
     (delete, ("t", "key", "S")),
@@ -22,6 +24,20 @@ CALLS = [
     (merge, ("t", "u", "S")),
     (take, ("t", "u", "S")),
 ]
+QUESTIONS = [
+    (cut, ("t", "m")),
+    (rows, ("t",)),
+    (history, ("t", "key")),
+    (when, ("t", "row")),
+    (alive, ("t", "key")),
+    (bounds, ("t",)),
+    (count, ("t",)),
+    (total, ("t", "c")),
+    (most, ("t",)),
+    (differ, ("t", "u")),
+    (uncovered, ("t", "c", "u")),
+]
+CALLS = CHANGES + QUESTIONS
 
 BAD_TABLES = (-HUGE, -1, 4, HUGE)
 BAD_NUMBERS = (-HUGE, -LARGE - 1, LARGE + 1, HUGE)
@@ -44,11 +60,14 @@ def bad_lists(good):
 def faults(function):
     """For each refusal, the pairs of an argument and a value by which a call is refused so."""
     columns = BAD_COLUMNS + ((0, 1) if function in (set_, add) else ())
+    unlike = (0, 1) if function == uncovered else (2,)
     return {
-        -1: [("t", t) for t in BAD_TABLES] + [("u", u) for u in BAD_TABLES] + [("op", op) for op in (-HUGE, -1, 6, HUGE)]
-            + [("x", x) for x in BAD_NUMBERS] + [("y", y) for y in BAD_NUMBERS],
+        -1: [("t", t) for t in BAD_TABLES] + [("u", u) for u in BAD_TABLES]
+            + [("op", op) for op in (-HUGE, -1, 6, HUGE)]
+            + [("x", x) for x in BAD_NUMBERS] + [("y", y) for y in BAD_NUMBERS]
+            + [("m", m) for m in (-HUGE, -1, LATEST + 1, HUGE)],
         -2: [("t", 3), ("u", 3)],
-        -3: [("u", 2)],
+        -3: [("u", u) for u in unlike],
         -4: [("c", c) for c in columns] + [("d", d) for d in BAD_COLUMNS],
         -5: [("row", row) for row in bad_lists(GOOD["row"])] + [("key", key) for key in bad_lists(GOOD["key"])]
             + [("S", S) for S in BAD_SETS],
@@ -56,7 +75,8 @@ def faults(function):
 
 
 def written(function, names, wrong):
-    return function(*[dict(GOOD, **dict(wrong))[name] for name in names])
+    good = dict(GOOD, u=2) if function == uncovered else GOOD
+    return function(*[dict(good, **dict(wrong))[name] for name in names])
 
 
 def answers_in_turn(calls):
@@ -69,8 +89,10 @@ def answers_in_turn(calls):
 
 class Refusals(unittest.TestCase):
     def test_good_calls_are_not_refused(self):
-        for function, names in CALLS:
+        for function, names in CHANGES:
             self.assertEqual(last(*BEGUN, written(function, names, []))[0], 0, function.__name__)
+        for function, names in QUESTIONS:
+            self.assertGreaterEqual(last(*BEGUN, written(function, names, []))[0], 0, function.__name__)
 
     def test_each(self):
         for function, names in CALLS:
@@ -93,8 +115,8 @@ class Refusals(unittest.TestCase):
         self.assertEqual(given, [[refusal]] * len(both), (function.__name__, refusal))
 
     def test_all_at_once(self):
-        wrong = [("t", 4), ("u", -1), ("c", 3), ("op", 6), ("x", HUGE), ("d", 3), ("y", HUGE), ("row", []), ("key", []),
-                 ("S", [1, 1])]
+        wrong = [("t", 4), ("u", -1), ("c", 3), ("op", 6), ("x", HUGE), ("d", 3), ("y", HUGE), ("m", -1), ("row", []),
+                 ("key", []), ("S", [1, 1])]
         for function, names in CALLS:
             self.assertEqual(last(*BEGUN, written(function, names, wrong)), [-1], function.__name__)
 
@@ -106,6 +128,13 @@ class Refusals(unittest.TestCase):
         calls += [put(0, [x, y, x], list(range(64))) for x in ends for y in ends]
         calls += [delete(0, [x, y], [0, LATEST - 1, LATEST]) for x in ends for y in ends]
         self.assertEqual([answer[0] for answer in ask(BEGUN + calls)], [0] * len(BEGUN + calls))
+
+    def test_edges_of_questions_that_are_not_refused(self):
+        ends = (-LARGE, LARGE)
+        calls = [history(0, [x, y]) for x in ends for y in ends] + [alive(0, [x, y]) for x in ends for y in ends]
+        calls += [when(0, [x, y, x]) for x in ends for y in ends] + [cut(0, 0), cut(0, LATEST)]
+        self.assertEqual(ask(BEGUN + calls)[len(BEGUN):], [[0]] * len(calls))
+        self.assertEqual([last(*BEGUN, total(0, c))[3:] for c in range(3)], [[3, 1, 9, 0], [3, 2, 9, 0], [3, 3, 9, 0]])
 
     def test_set_and_add_in_a_table_that_is_all_key(self):
         begun = [make(0, 2, 2), insert(0, [1, 2], [3, 9])]
@@ -123,17 +152,32 @@ class Refusals(unittest.TestCase):
         for function in (copy, merge, take):
             self.assertEqual(last(function(0, 0, [5, 5])), [-2])
             self.assertEqual(last(function(0, 1, [5, 5])), [-2])
+        self.assertEqual(last(differ(0, 0)), [-2])
+        self.assertEqual(last(differ(0, 1)), [-2])
+        self.assertEqual(last(uncovered(0, HUGE, 0)), [-2])
+
+    def test_questions_when_no_table_is_made(self):
+        for function, names in QUESTIONS:
+            self.assertEqual(last(written(function, names, [])), [-2], function.__name__)
 
     def test_a_dropped_table_is_refused(self):
         for function, names in CALLS:
             self.assertEqual(last(*BEGUN, drop(0), written(function, names, [])), [-2], function.__name__)
 
-    def test_rows_are_the_same_after_refusals(self):
-        calls = list(BEGUN)
-        for function, names in CALLS:
-            for pairs in faults(function).values():
-                calls += [written(function, names, [pair]) for pair in pairs if pair[0] in names][:2]
-        self.assertLess(len(calls), 110)
+    def check_unchanged(self, calls):
+        self.assertLess(len(calls), 100)
         for t in range(3):
-            found = held(calls, t, SHAPES[t], [[1, 2, 3], [1, 2, 4], [1, 2, 5]])
+            found = held(BEGUN + calls, t, SHAPES[t], [[1, 2, 3], [1, 2, 4], [1, 2, 5]])
             self.assertEqual(found, {(1, 2, 3): [3, 9], (1, 2, 4): [], (1, 2, 5): []})
+            self.assertEqual(last(*BEGUN, *calls, rows(t)), [1, 1, 2, 3, 2, 3, 9])
+
+    def test_rows_are_the_same_after_refusals(self):
+        for listed in (CHANGES, QUESTIONS):
+            calls = []
+            for function, names in listed:
+                for pairs in faults(function).values():
+                    calls += [written(function, names, [pair]) for pair in pairs if pair[0] in names][:2]
+            self.check_unchanged(calls)
+
+    def test_rows_are_the_same_after_questions(self):
+        self.check_unchanged([written(function, names, []) for function, names in QUESTIONS] * 2)

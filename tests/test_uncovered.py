@@ -2,7 +2,6 @@
 
 import unittest
 
-from overtime.questions import limited
 from tests.calls import HUGE, LARGE, held, insert, last, make, uncovered
 
 BEGUN = [make(0, 2, 1), make(1, 3, 1)]
@@ -77,8 +76,3 @@ class UncoveredRefused(unittest.TestCase):
     def test_column(self):
         for wrong in (-HUGE, -1, 2, HUGE):
             self.assertEqual(last(*BEGUN, uncovered(0, wrong, 1)), [-4])
-
-    def test_8000_numbers_are_no_refusal(self):
-        # No list of 120 calls brings so many bounds about, so the limit is looked at by itself.
-        self.assertEqual(limited(list(range(8000))), list(range(8000)))
-        self.assertEqual(limited(list(range(8001))), [-30])
